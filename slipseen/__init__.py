@@ -1,0 +1,1 @@
+"""Slipseen: schemes of check figures, and the slips that they see."""
