@@ -13,11 +13,11 @@ Break Continue Pass Raise Try ExceptHandler Call Name Load Store Attribute Subsc
 comprehension BinOp UnaryOp BoolOp Compare IfExp Lambda JoinedStr FormattedValue Add Sub Mult FloorDiv Mod Pow BitAnd
 BitOr BitXor LShift RShift Invert Not USub UAdd And Or Eq NotEq Lt LtE Gt GtE Is IsNot In NotIn keyword""".split()
 
-NAMES = """len range enumerate zip min max sum abs sorted reversed int str bool list tuple dict isinstance ord repr any all
-divmod ValueError KeyError IndexError LookupError ZeroDivisionError""".split()
+NAMES = """len range enumerate zip min max sum abs sorted reversed int str bool list tuple dict isinstance ord repr any
+all divmod ValueError KeyError IndexError LookupError ZeroDivisionError""".split()
 
-METHODS = """append clear copy count endswith extend find get index insert isalnum isalpha isdigit islower isspace isupper
-items join keys ljust lower lstrip partition pop remove replace reverse rfind rjust rpartition rsplit rstrip setdefault
+METHODS = """append clear copy count endswith extend find get index insert isalnum isalpha isdigit islower isspace
+isupper items join keys ljust lower lstrip partition pop remove replace reverse rfind rjust rpartition rsplit rstrip setdefault
 split splitlines startswith strip update upper values zfill bit_length""".split()
 
 WORDS = """type typing typing_extensions enum Enum IntEnum StrEnum Flag IntFlag Generic Protocol ABC ABCMeta namedtuple

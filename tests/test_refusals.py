@@ -108,7 +108,8 @@ class Refusals(unittest.TestCase):
 
     def test_no_figure(self):
         for figure in NO_FIGURES:
-            for figures in ([figure], [figure, 1, 2], [1, figure, 2], [1, 2, figure], [1] * 59 + [figure], [1] * 65 + [figure]):
+            for figures in ([figure], [figure, 1, 2], [1, figure, 2], [1, 2, figure], [1] * 59 + [figure],
+                            [1] * 65 + [figure]):
                 with self.subTest(figures=figures):
                     for ask in (state_after, good, checks):
                         self.assert_refused("NoFigure", ask, DAMM, figures)
