@@ -17,8 +17,8 @@ NAMES = """len range enumerate zip min max sum abs sorted reversed int str bool 
 all divmod ValueError KeyError IndexError LookupError ZeroDivisionError""".split()
 
 METHODS = """append clear copy count endswith extend find get index insert isalnum isalpha isdigit islower isspace
-isupper items join keys ljust lower lstrip partition pop remove replace reverse rfind rjust rpartition rsplit rstrip setdefault
-split splitlines startswith strip update upper values zfill bit_length""".split()
+isupper items join keys ljust lower lstrip partition pop remove replace reverse rfind rjust rpartition rsplit rstrip
+setdefault split splitlines startswith strip update upper values zfill bit_length""".split()
 
 WORDS = """type typing typing_extensions enum Enum IntEnum StrEnum Flag IntFlag Generic Protocol ABC ABCMeta namedtuple
 NamedTuple TypedDict TYPE_CHECKING abstractmethod""".split()
