@@ -64,6 +64,10 @@ def moved(tables, spot, figures):
     return (turn, state)
 
 
+def spot_steps(scheme, spot):
+    return [(figure, moved(scheme[1], spot, [figure])) for figure in range(scheme[0])]
+
+
 def spot_after(scheme, figures):
     check_scheme(scheme)
     check_figures(scheme, figures)
@@ -90,13 +94,11 @@ def checks(scheme, figures):
 
 def closing(scheme):
     check_scheme(scheme)
-    base = scheme[0]
-    tables = scheme[1]
 
     def steps(spot):
-        return [(figure, moved(tables, spot, [figure])) for figure in range(base)]
+        return spot_steps(scheme, spot)
 
     def ends(spot):
-        return len(checks_at(tables, spot)) != 1
+        return len(checks_at(scheme[1], spot)) != 1
 
     return shortest(START, steps, ends)

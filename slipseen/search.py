@@ -1,4 +1,4 @@
-"""The search for a way of fewest steps, which every question after a shortest number goes through.
+"""Ways from node to node: one of fewest steps, and how many there are of so many steps.
 
 A step is a tuple of two: its label, and the node that it leads to.
 """
@@ -27,3 +27,32 @@ def shortest(start, steps, ends):
                     farther.append(step[1])
         nodes = farther
     return None
+
+
+def step_counts(steps):
+    counts = {}
+    for step in steps:
+        counts[step[1]] = counts.get(step[1], 0) + 1
+    return counts
+
+
+def one_step_on(ways, counts):
+    farther = {}
+    for node in ways:
+        for target, count in counts[node].items():
+            farther[target] = farther.get(target, 0) + ways[node] * count
+    return farther
+
+
+def ways_to_end(start, steps, ends, length):
+    if length < 0:
+        return 0
+    # A node is come to at many lengths, but its steps are always the same: they are asked for once.
+    counts = {}
+    ways = {start: 1}
+    for walked in range(length):
+        for node in ways:
+            if node not in counts:
+                counts[node] = step_counts(steps(node))
+        ways = one_step_on(ways, counts)
+    return sum([ways[node] for node in ways if ends(node)])

@@ -81,9 +81,7 @@ def joined(pairs):
 # Ahead of the slip they are one reading and the second spot is None. There are few nodes, so a
 # search through all of them speaks of numbers of any length. Every way to an end holds just one
 # slip, and all slips of a kind are of one width: a way of fewest steps is a shortest number.
-def unseen(scheme, kind):
-    check_scheme(scheme)
-    check_kind(kind)
+def slip_steps(scheme, kind):
     tables = scheme[1]
     kept = [([figure], [figure]) for figure in range(scheme[0])]
     slipped = slipped_pairs(kind, scheme[0])
@@ -94,7 +92,13 @@ def unseen(scheme, kind):
         ahead = [(pair, (moved(tables, node[0], pair[0]), None)) for pair in kept]
         return ahead + pair_steps(tables, node[0], node[0], slipped)
 
-    pairs = shortest((START, None), steps, ends_good)
+    return steps
+
+
+def unseen(scheme, kind):
+    check_scheme(scheme)
+    check_kind(kind)
+    pairs = shortest((START, None), slip_steps(scheme, kind), ends_good)
     if pairs is None:
         return None
     return joined(pairs)

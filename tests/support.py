@@ -1,5 +1,6 @@
 """Schemes to test with, and slow answers that are found by trying all short numbers."""
 
+from functools import lru_cache
 from itertools import product
 
 # The quasigroup of H. M. Damm: it closes, and sees every `one` and every `swap`.
@@ -124,3 +125,83 @@ def shortest_unseen(scheme, kind, most):
                     if slow_state(scheme, slip) == 0:
                         return length
     return None
+
+
+def slow_good_count(scheme, length):
+    return len([figures for figures in all_numbers(scheme[0], length) if slow_state(scheme, figures) == 0])
+
+
+def slow_missed(scheme, kind, length):
+    """The missed slips, counted one by one."""
+    count = 0
+    for figures in all_numbers(scheme[0], length):
+        if slow_state(scheme, figures) == 0:
+            count += len([slip for slip in slow_slips(scheme[0], kind, figures) if slow_state(scheme, slip) == 0])
+    return count
+
+
+def read_on(scheme, place, state, figures):
+    for figure in figures:
+        state = scheme[1][place % len(scheme[1])][state][figure]
+        place += 1
+    return state
+
+
+def far_missed(scheme, kind, length):
+    """The missed slips of longer numbers, place by place: the ways ahead of the slip times those behind it."""
+    base = scheme[0]
+    width = {"one": 1, "swap": 2, "twin": 2, "jump": 3, "out": 1}[kind]
+    pairs = [(window, written) for window in all_numbers(base, width) for written in slow_slips(base, kind, window)]
+
+    @lru_cache(maxsize=None)
+    def ahead(place, state):
+        if place == 0:
+            return int(state == 0)
+        return sum(ahead(place - 1, before) for before in range(len(scheme[1][0])) for figure in range(base)
+                   if read_on(scheme, place - 1, before, [figure]) == state)
+
+    @lru_cache(maxsize=None)
+    def behind(place, state, other_place, other):
+        if place == length:
+            return int(state == 0 and other == 0)
+        return sum(behind(place + 1, read_on(scheme, place, state, [figure]),
+                          other_place + 1, read_on(scheme, other_place, other, [figure])) for figure in range(base))
+
+    return sum(
+        ahead(at, state) * behind(at + width, read_on(scheme, at, state, window),
+                                  at + len(written), read_on(scheme, at, state, written))
+        for at in range(length - width + 1) for state in range(len(scheme[1][0])) for window, written in pairs)
+
+
+def shortest_parting(scheme, other, most):
+    """The length of the shortest number that is good by just one of two schemes, up to a length; else None."""
+    for length in range(most + 1):
+        for figures in all_numbers(scheme[0], length):
+            if (slow_state(scheme, figures) == 0) != (slow_state(other, figures) == 0):
+                return length
+    return None
+
+
+def renumbered(scheme, seed):
+    """The same scheme, with its states but 0 called by other numbers."""
+    states = len(scheme[1][0])
+    called = [0] + sorted(range(1, states), key=lambda state: (state * 7 + seed * 5) % 13)
+    back = [called.index(state) for state in range(states)]
+    return (scheme[0], tuple(
+        tuple(tuple(called[state] for state in table[back[row]]) for row in range(states)) for table in scheme[1]))
+
+
+def counting(base, tables, states):
+    """The state rises at the last turn alone, and is 0 only ahead of all and when it has gone round."""
+    return (base, tuple(
+        tuple((max(state, 1) if turn < tables - 1 else (max(state, 1) + 1) % states,) * base
+              for state in range(states))
+        for turn in range(tables)))
+
+
+def is_of_tuples(scheme):
+    """Whether a scheme is of tuples within tuples, and of whole numbers alone."""
+    rows = [row for table in scheme[1] for row in table]
+    tuples = [scheme, scheme[1]] + list(scheme[1]) + rows
+    numbers = [scheme[0]] + [state for row in rows for state in row]
+    return {value.__class__ for value in tuples} == {tuple} and {value.__class__ for value in numbers} == {int}
